@@ -1,5 +1,6 @@
 """Yards, words and drawings that several tests use."""
 
+import itertools
 import random
 
 YARDS = ("aA", "Aa", "zZ", "abAB", "aAbB", "abBA", "BAba", "zaZA", "abcABC", "cabCAB", "aBcAbC", "CcbaAB",
@@ -24,9 +25,62 @@ def some_drawings(yard, how_many):
     drawings = []
     for number in range(how_many):
         words = tuple("".join(chance.choices(yard, k=chance.randrange(7))) for cord in range(chance.randrange(5)))
-        orders = tuple(tuple(chance.sample(strands, len(strands))) for strands in strands_by_band(yard, words))
-        drawings.append((words, orders))
+        drawings.append(some_drawing(chance, yard, words))
     return drawings
+
+
+def some_drawing(chance, yard, words):
+    orders = tuple(tuple(chance.sample(strands, len(strands))) for strands in strands_by_band(yard, words))
+    return (tuple(words), orders)
+
+
+def all_drawings(yard, words):
+    for orders in itertools.product(*[itertools.permutations(strands) for strands in strands_by_band(yard, words)]):
+        yield (tuple(words), orders)
+
+
+def about(word):
+    return word[::-1].swapcase()
+
+
+def begun_at(word, place):
+    return word[place:] + word[:place]
+
+
+def is_shortest(word):
+    return all(word[place - 1] != word[place].swapcase() for place in range(len(word)))
+
+
+def shortest_words(yard, size):
+    """All words of just so many letters that are their own shortest."""
+    return [word for word in map("".join, itertools.product(yard, repeat=size)) if is_shortest(word)]
+
+
+def chance_shortest(chance, yard, size):
+    word = "".join(chance.choices(yard, k=size))
+    while not is_shortest(word):
+        word = "".join(chance.choices(yard, k=size))
+    return word
+
+
+def some_cords(yard, how_many, letters=24):
+    """Tuples of one to four shortest words by chance, some of them one, turned about or gone round more than once."""
+    chance = random.Random("cords " + yard)
+    told = []
+    for number in range(how_many):
+        words = []
+        for cord in range(chance.randrange(1, 5)):
+            word = chance_shortest(chance, yard, chance.randrange(1, 7))
+            if words and chance.random() < 0.4:
+                word = begun_at(chance.choice(words), chance.randrange(2))
+            if chance.random() < 0.3:
+                word = word * chance.randrange(1, 4)
+            words.append(about(word) if chance.random() < 0.3 else word)
+        while sum(map(len, words)) > letters or max(map(len, words)) > 12:
+            words.remove(max(words, key=len))
+            words = words or [yard[0]]
+        told.append(tuple(words))
+    return told
 
 
 def check_drawing_kind(case, drawing):
