@@ -35,40 +35,35 @@ def letters_along(yard, one, i, other, j):
     return many if ahead == behind else 0
 
 
-def forced_one_way(yard, words, one, other):
-    c = one[0]
-    i = one[1]
-    d = other[0]
-    j = other[1]
+def forced_onward(yard, words, one, other):
+    word = words[one[0]]
+    other_word = words[other[0]]
     told = []
-    if meets_across(yard, words[c], i, words[d], j):
-        told.append((c, i, d, j, 0, "across"))
-    many = letters_along(yard, words[c], i, words[d], j)
+    if meets_across(yard, word, one[1], other_word, other[1]):
+        told.append(one + other + (0, "across"))
+    many = letters_along(yard, word, one[1], other_word, other[1])
     if many > 0:
-        told.append((c, i, d, j, many, "along"))
+        told.append(one + other + (many, "along"))
     return told
 
 
 def forced_against(yard, words, backs, one, other):
-    c = one[0]
-    i = one[1]
-    d = other[0]
-    j = other[1]
+    word = words[one[0]]
     # Against a word is along the word turned about.
-    many = letters_along(yard, words[c], i, backs[d], len(backs[d]) - 1 - j)
-    if many == 0:
-        return []
-    size = len(words[c])
+    back = backs[other[0]]
+    many = letters_along(yard, word, one[1], back, len(back) - 1 - other[1])
     # One cord shares a stretch with itself as well from its other side: the lesser of both is told.
-    if c == d and ((j - many + 1) % size, (i + many - 1) % size) < (i, j):
+    turn = ((other[1] - many + 1) % len(word), (one[1] + many - 1) % len(word))
+    if many == 0 or (one[0] == other[0] and turn < (one[1], other[1])):
         return []
-    return [(c, i, d, j, many, "against")]
+    return [one + other + (many, "against")]
 
 
 def forced_at(yard, words, backs, one, other):
+    # The strands `one` and `other` are pairs of a cord's number and a place.
     told = []
     if one < other:
-        told.extend(forced_one_way(yard, words, one, other))
+        told.extend(forced_onward(yard, words, one, other))
     if one[0] <= other[0]:
         told.extend(forced_against(yard, words, backs, one, other))
     return told
@@ -92,10 +87,12 @@ def forced(yard, words):
     return sorted(told)
 
 
+def is_strand(words, cord, place):
+    return 0 <= cord < len(words) and 0 <= place < len(words[cord])
+
+
 def is_forced(yard, words, thing):
-    one = (thing[0], thing[1])
-    other = (thing[2], thing[3])
-    every = strands_of(words)
-    if one not in every or other not in every:
+    if not is_strand(words, thing[0], thing[1]) or not is_strand(words, thing[2], thing[3]):
         return False
-    return thing in forced_at(yard, words, [turned(word) for word in words], one, other)
+    backs = [turned(word) for word in words]
+    return thing in forced_at(yard, words, backs, (thing[0], thing[1]), (thing[2], thing[3]))

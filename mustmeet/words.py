@@ -48,3 +48,7 @@ def root(word):
         if whole[:size] * times == whole:
             return (whole[:size], times)
     return ("", 0)
+
+
+def by_size(words):
+    return sorted(words, key=lambda word: (len(word), word))

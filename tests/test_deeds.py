@@ -80,7 +80,8 @@ def any_deed(chance, yard, near):
     def text():
         return chance.choice(yard) if chance.random() < 0.95 else chance.choice(STRANGE)
     return chance.choice([("swap", text().lower(), number()), ("swap", text(), number()),
-                          ("out", number(), number()), ("turn", number()), ("in", number(), number(), text(), number())])
+                          ("out", number(), number()), ("turn", number()),
+                          ("in", number(), number(), text(), number())])
 
 
 class TestDone(unittest.TestCase):
