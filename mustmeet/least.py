@@ -1,15 +1,14 @@
 """The least numbers of meetings."""
 
-from mustmeet.forced import forced
-from mustmeet.words import root
+from mustmeet.meetings import corners, count_meetings
+from mustmeet.taut import taut
 
-
-def more_rounds(words):
-    return sum([max(root(word)[1] - 1, 0) for word in words])
+# A taut drawing has just as many meetings as must be. They are counted sooner than all forced ones are found, and
+# words that were wound along others may be some thousand letters long.
 
 
 def least(yard, words):
-    return len(forced(yard, words)) + more_rounds(words)
+    return count_meetings(corners(yard, taut(yard, words)))
 
 
 def own(yard, word):
@@ -17,4 +16,7 @@ def own(yard, word):
 
 
 def between(yard, one, other):
-    return len([thing for thing in forced(yard, (one, other)) if thing[0] != thing[2]])
+    every = corners(yard, taut(yard, (one, other)))
+    ones = every[:len(one)]
+    others = every[len(one):]
+    return count_meetings(every) - count_meetings(ones) - count_meetings(others)

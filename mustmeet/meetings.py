@@ -51,3 +51,40 @@ def meetings(yard, drawing):
             if corners_meet(one, other):
                 told.append((one[0], one[1], other[0], other[1]))
     return told
+
+
+def chord_starts(some):
+    # For each point of these corners the one of both where, from the first point of all on, one comes by first.
+    starts = {}
+    for corner in some:
+        first = min(corner[2], corner[3])
+        starts[corner[2]] = first
+        starts[corner[3]] = first
+    return starts
+
+
+def number_in(rising, point):
+    low = 0
+    high = len(rising) - 1
+    while low < high:
+        middle = (low + high) // 2
+        if rising[middle] < point:
+            low = middle + 1
+        else:
+            high = middle
+    return low
+
+
+def count_meetings(some):
+    # At a corner's last point just those are met that were begun behind it and aren't ended yet.
+    starts = chord_starts(some)
+    begun = []
+    many = 0
+    for point in sorted(starts):
+        if starts[point] == point:
+            begun.append(point)
+        else:
+            number = number_in(begun, starts[point])
+            begun.pop(number)
+            many += len(begun) - number
+    return many

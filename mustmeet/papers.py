@@ -3,9 +3,9 @@
 from mustmeet.drawings import look_drawing
 from mustmeet.errors import NoDrawing, NoPaper
 from mustmeet.forced import forced
-from mustmeet.least import more_rounds
 from mustmeet.meetings import meetings
 from mustmeet.taut import taut
+from mustmeet.words import root
 
 
 def paper_of(yard, words):
@@ -31,6 +31,10 @@ def look_things(yard, words, things):
     for thing in things:
         if thing not in known:
             raise NoPaper("forced")
+
+
+def more_rounds(words):
+    return sum([max(root(word)[1] - 1, 0) for word in words])
 
 
 def paper_holds(yard, words, paper):

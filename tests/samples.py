@@ -3,6 +3,8 @@
 import itertools
 import random
 
+from mustmeet.forced import forced
+
 YARDS = ("aA", "Aa", "zZ", "abAB", "aAbB", "abBA", "BAba", "zaZA", "abcABC", "cabCAB", "aBcAbC", "CcbaAB",
          "DaCbAcBd", "abABcdCD", "abcdABCD", "aAbBcCdD")
 
@@ -61,6 +63,16 @@ def chance_shortest(chance, yard, size):
     while not is_shortest(word):
         word = "".join(chance.choices(yard, k=size))
     return word
+
+
+def rounds(word):
+    """How often a shortest word goes round its root."""
+    return max(times for times in range(1, len(word) + 1) if word[:len(word) // times] * times == word)
+
+
+def fewest(yard, words):
+    """The least number of meetings, by all forced meetings."""
+    return len(forced(yard, words)) + sum(rounds(word) - 1 for word in words)
 
 
 def some_cords(yard, how_many, letters=24):

@@ -3,14 +3,13 @@ import random
 import unittest
 
 from mustmeet.apart import full_set, lie_apart, most
-from mustmeet.least import between, least
 from mustmeet.lone import is_lone, lone_loops
 from mustmeet.meetings import meetings
 from mustmeet.rims import handles, rims
 from mustmeet.taut import taut
 from mustmeet.words import loop, shortest
 from mustmeet.yards import within
-from samples import YARDS, about, begun_at, names_of
+from samples import YARDS, about, begun_at, fewest, names_of
 
 ROWS = {1: 6, 2: 5, 3: 3, 4: 2}
 
@@ -49,7 +48,7 @@ class TestLieApart(unittest.TestCase):
             for one, other in itertools.product(words, repeat=2):
                 expected = is_lone(yard, one) and is_lone(yard, other)
                 if expected:
-                    expected = between(yard, shortest(one), shortest(other)) == 0
+                    expected = fewest(yard, (shortest(one), shortest(other))) == 0
                 self.assertIs(lie_apart(yard, (one, other)), expected, (yard, one, other))
 
     def test_cords_that_are_one(self):
@@ -71,7 +70,7 @@ class TestLieApart(unittest.TestCase):
                     word = word[:place] + letter + letter.swapcase() + word[place:]
                     letter = chance.choice(yard)
                     longer.append(letter + word + letter.swapcase())
-                expected = least(yard, tuple(words)) == 0
+                expected = fewest(yard, tuple(words)) == 0
                 self.assertIs(lie_apart(yard, tuple(words)), expected)
                 self.assertIs(lie_apart(yard, tuple(longer)), expected, (yard, longer))
 

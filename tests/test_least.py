@@ -6,12 +6,7 @@ from mustmeet.deeds import done
 from mustmeet.forced import forced
 from mustmeet.least import between, least, own
 from mustmeet.meetings import meetings
-from samples import (YARDS, about, all_drawings, begun_at, shortest_words, some_cords, some_drawing)
-
-
-def rounds(word):
-    """How often a shortest word goes round its root."""
-    return max(times for times in range(1, len(word) + 1) if word[:len(word) // times] * times == word)
+from samples import (YARDS, about, all_drawings, begun_at, fewest, rounds, shortest_words, some_cords, some_drawing)
 
 
 class TestLeast(unittest.TestCase):
@@ -60,8 +55,7 @@ class TestLeast(unittest.TestCase):
     def test_forced_and_rounds(self):
         for yard in YARDS:
             for words in some_cords(yard, 20):
-                more = sum(rounds(word) - 1 for word in words)
-                self.assertEqual(least(yard, words), len(forced(yard, words)) + more)
+                self.assertEqual(least(yard, words), fewest(yard, words))
 
     def test_own_and_between_add_up(self):
         for yard in YARDS:

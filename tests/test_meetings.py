@@ -1,7 +1,7 @@
 import unittest
 
 from mustmeet.drawings import plain
-from mustmeet.meetings import meetings, points
+from mustmeet.meetings import corners, count_meetings, meetings, points
 from samples import YARDS, names_of, some_drawings
 
 
@@ -128,6 +128,17 @@ class TestMeetings(unittest.TestCase):
         self.assertEqual(meetings("abAB", drawing), kept)
         self.assertIsNot(meetings("abAB", drawing), meetings("abAB", drawing))
         self.assertEqual(drawing, plain("abAB", ("abAB", "b")))
+
+
+class TestCountMeetings(unittest.TestCase):
+    def test_as_many_as_meetings(self):
+        for yard in YARDS:
+            for drawing in some_drawings(yard, 60):
+                every = corners(yard, drawing)
+                self.assertEqual(count_meetings(every), len(meetings(yard, drawing)))
+                ones = [corner for corner in every if corner[0] == 0]
+                own = [thing for thing in meetings(yard, drawing) if thing[0] == thing[2] == 0]
+                self.assertEqual(count_meetings(ones), len(own))
 
 
 if __name__ == "__main__":

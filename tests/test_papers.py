@@ -4,11 +4,9 @@ import unittest
 from mustmeet.drawings import plain
 from mustmeet.errors import MeetError, NoPaper
 from mustmeet.forced import forced
-from mustmeet.least import least
 from mustmeet.meetings import meetings
 from mustmeet.papers import paper_holds, paper_of
-from mustmeet.taut import taut
-from samples import YARDS, about, all_drawings, begun_at, check_drawing_kind, some_cords, some_drawing
+from samples import YARDS, about, all_drawings, begun_at, check_drawing_kind, fewest, some_cords, some_drawing
 
 
 class TestPaperOf(unittest.TestCase):
@@ -19,7 +17,7 @@ class TestPaperOf(unittest.TestCase):
                 self.assertIs(paper_holds(yard, words, paper), True)
                 self.assertEqual(paper[0][0], words)
                 self.assertEqual(paper[1], tuple(forced(yard, words)))
-                self.assertEqual(len(meetings(yard, paper[0])), least(yard, words))
+                self.assertEqual(len(meetings(yard, paper[0])), fewest(yard, words))
                 self.assertEqual(paper_of(yard, words), paper)
 
     def test_kinds(self):
@@ -51,7 +49,7 @@ class TestPaperHolds(unittest.TestCase):
             things = tuple(forced(yard, words))
             held = 0
             for drawing in all_drawings(yard, words):
-                if len(meetings(yard, drawing)) == least(yard, words):
+                if len(meetings(yard, drawing)) == fewest(yard, words):
                     held += 1
                     self.assertIs(paper_holds(yard, words, (drawing, things)), True)
                 else:
@@ -128,7 +126,7 @@ class TestPaperHolds(unittest.TestCase):
             for words in some_cords(yard, 20):
                 things = tuple(forced(yard, words))
                 drawing = some_drawing(chance, yard, words)
-                if len(meetings(yard, drawing)) != least(yard, words):
+                if len(meetings(yard, drawing)) != fewest(yard, words):
                     seen += 1
                     self.refused("many", yard, words, (drawing, things))
         self.assertGreater(seen, 100)

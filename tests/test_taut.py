@@ -3,11 +3,10 @@ import random
 import unittest
 
 from mustmeet.drawings import look_drawing
-from mustmeet.least import least
 from mustmeet.meetings import meetings
 from mustmeet.taut import taut
-from samples import (YARDS, about, all_drawings, begun_at, chance_shortest, check_drawing_kind, shortest_words,
-                     some_cords, some_drawing)
+from samples import (YARDS, about, all_drawings, begun_at, chance_shortest, check_drawing_kind, fewest,
+                     shortest_words, some_cords, some_drawing)
 
 
 class TestTaut(unittest.TestCase):
@@ -16,7 +15,7 @@ class TestTaut(unittest.TestCase):
         check_drawing_kind(self, drawing)
         self.assertIs(look_drawing(yard, drawing), True)
         self.assertEqual(drawing[0], words)
-        self.assertEqual(len(meetings(yard, drawing)), least(yard, words), (yard, words))
+        self.assertEqual(len(meetings(yard, drawing)), fewest(yard, words), (yard, words))
         self.assertEqual(taut(yard, words), drawing)
         return drawing
 
@@ -70,27 +69,27 @@ class TestTaut(unittest.TestCase):
         for yard, words in (("abAB", ("aabb", "ab")), ("aAbB", ("abAB", "aB")), ("abBA", ("abab", "a")),
                             ("aA", ("aaaa", "AA")), ("aBcAbC", ("abCa", "cbA")), ("abABcdCD", ("acBd", "cdac")),
                             ("abAB", ("aab", "aab")), ("aAbBcCdD", ("aCbD", "dcBa"))):
-            fewest = len(meetings(yard, self.is_taut(yard, words)))
-            self.assertEqual(min(len(meetings(yard, drawing)) for drawing in all_drawings(yard, words)), fewest)
+            many = len(meetings(yard, self.is_taut(yard, words)))
+            self.assertEqual(min(len(meetings(yard, drawing)) for drawing in all_drawings(yard, words)), many)
 
     def test_no_drawing_by_chance_has_fewer(self):
         chance = random.Random(22)
         for yard in YARDS:
             for words in some_cords(yard, 12):
-                fewest = len(meetings(yard, taut(yard, words)))
+                many = len(meetings(yard, taut(yard, words)))
                 for number in range(15):
-                    self.assertGreaterEqual(len(meetings(yard, some_drawing(chance, yard, words))), fewest)
+                    self.assertGreaterEqual(len(meetings(yard, some_drawing(chance, yard, words))), many)
 
     def test_no_swap_makes_fewer(self):
         for yard in YARDS:
             for words in some_cords(yard, 6, 12):
                 drawing = taut(yard, words)
-                fewest = len(meetings(yard, drawing))
+                many = len(meetings(yard, drawing))
                 for band, order in enumerate(drawing[1]):
                     for number in range(len(order) - 1):
                         swapped = order[:number] + order[number + 1:number + 2] + order[number:number + 1]
                         orders = drawing[1][:band] + (swapped + order[number + 2:],) + drawing[1][band + 1:]
-                        self.assertGreaterEqual(len(meetings(yard, (words, orders))), fewest)
+                        self.assertGreaterEqual(len(meetings(yard, (words, orders))), many)
 
     def test_words_that_were_told_may_be_of_any_size(self):
         chance = random.Random(60)
