@@ -7,6 +7,7 @@ from mustmeet.forced import forced
 
 YARDS = ("aA", "Aa", "zZ", "abAB", "aAbB", "abBA", "BAba", "zaZA", "abcABC", "cabCAB", "aBcAbC", "CcbaAB",
          "DaCbAcBd", "abABcdCD", "abcdABCD", "aAbBcCdD")
+SOME_LETTERS = "abcABCzZ"
 
 
 def names_of(yard):
@@ -93,6 +94,34 @@ def some_cords(yard, how_many, letters=24):
             words = words or [yard[0]]
         told.append(tuple(words))
     return told
+
+
+def some_term(chance, names, depth):
+    kinds = ["walk", "walk"] + ["name"] * 2 * bool(names)
+    if depth > 1:
+        kinds += ["then", "then", "back", "again", "for"]
+    kind = chance.choice(kinds)
+    if kind == "walk":
+        return ("walk", "".join(chance.choices(SOME_LETTERS, k=chance.randrange(7))))
+    if kind == "name":
+        return ("name", chance.choice(names))
+    if kind == "back":
+        return ("back", some_term(chance, names, depth - 1))
+    if kind == "again":
+        return ("again", chance.randrange(7), some_term(chance, names, depth - 1))
+    parts = (some_term(chance, names, depth - 1), some_term(chance, names, depth - 1))
+    if kind == "then":
+        return ("then",) + parts
+    return ("for", chance.choice("abcz")) + parts
+
+
+def some_program(chance):
+    names = []
+    rows = []
+    for name in chance.sample(["a", "walk", "name", "one", "ring", "longer", "cord", "z"], chance.randrange(1, 9)):
+        rows.append((name, some_term(chance, names, chance.randrange(1, 6))))
+        names.append(name)
+    return tuple(rows)
 
 
 def check_drawing_kind(case, drawing):

@@ -3,9 +3,7 @@ import unittest
 
 from mustmeet.errors import MeetError, NoName, TooLong, Twice
 from mustmeet.programs import look_program, worked
-from samples import about
-
-LETTERS = "abcABCzZ"
+from samples import SOME_LETTERS, about, some_program
 
 
 class SlowLong(Exception):
@@ -13,7 +11,7 @@ class SlowLong(Exception):
 
 
 def slow_short(word):
-    pairs = [letter + letter.swapcase() for letter in LETTERS]
+    pairs = [letter + letter.swapcase() for letter in SOME_LETTERS]
     while any(pair in word for pair in pairs):
         for pair in pairs:
             word = word.replace(pair, "")
@@ -58,34 +56,6 @@ def slow_worked(program):
         except SlowLong:
             return name
     return [known[name] for name, term in program]
-
-
-def some_term(chance, names, depth):
-    kinds = ["walk", "walk"] + ["name"] * 2 * bool(names)
-    if depth > 1:
-        kinds += ["then", "then", "back", "again", "for"]
-    kind = chance.choice(kinds)
-    if kind == "walk":
-        return ("walk", "".join(chance.choices(LETTERS, k=chance.randrange(7))))
-    if kind == "name":
-        return ("name", chance.choice(names))
-    if kind == "back":
-        return ("back", some_term(chance, names, depth - 1))
-    if kind == "again":
-        return ("again", chance.randrange(7), some_term(chance, names, depth - 1))
-    parts = (some_term(chance, names, depth - 1), some_term(chance, names, depth - 1))
-    if kind == "then":
-        return ("then",) + parts
-    return ("for", chance.choice("abcz")) + parts
-
-
-def some_program(chance):
-    names = []
-    rows = []
-    for name in chance.sample(["a", "walk", "name", "one", "ring", "longer", "cord", "z"], chance.randrange(1, 9)):
-        rows.append((name, some_term(chance, names, chance.randrange(1, 6))))
-        names.append(name)
-    return tuple(rows)
 
 
 def walk(word):
@@ -199,7 +169,8 @@ class TestWorked(unittest.TestCase):
 
     def test_long_only_ahead_of_shortening(self):
         self.assertEqual(worked((("a", walk("aA" * 100 + "b")),)), ["b"])
-        self.assertEqual(worked((("a", ("again", 6, walk("b" * 27 + "a" + "B" * 27))),)), ["b" * 27 + "a" * 6 + "B" * 27])
+        term = ("again", 6, walk("b" * 27 + "a" + "B" * 27))
+        self.assertEqual(worked((("a", term),)), ["b" * 27 + "a" * 6 + "B" * 27])
         self.assertEqual(worked((("a", ("then", walk("a" * 60), walk("A" * 60))),)), [""])
         self.assertEqual(worked((("a", ("for", "a", walk("ab" * 30), walk("B"))),)), [""])
 

@@ -64,8 +64,8 @@ class TestWound(unittest.TestCase):
             self.assertEqual(wound(yard, along, times, word), expected, (yard, along, times, word))
 
     def test_read_slowly_from_any_taut_drawing(self):
-        for yard, sizes in (("abAB", (4, 3)), ("aAbB", (3, 2)), ("abBA", (3, 2)), ("aBcAbC", (2, 2)), ("CcbaAB", (2, 2)),
-                            ("abABcdCD", (2, 2))):
+        for yard, sizes in (("abAB", (4, 3)), ("aAbB", (3, 2)), ("abBA", (3, 2)), ("aBcAbC", (2, 2)),
+                            ("CcbaAB", (2, 2)), ("abABcdCD", (2, 2))):
             chance = random.Random(yard)
             for number in range(25):
                 word = chance_shortest(chance, yard, chance.randrange(1, sizes[0] + 1))
